@@ -1,0 +1,1 @@
+"""Downweigh: what must end, and what no weighing shows to end."""
