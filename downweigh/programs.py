@@ -1,0 +1,69 @@
+"""Programs: names of numbers, names of places, and rows that lead from place to place."""
+
+from downweigh.errors import NoProgram
+from downweigh.numbers import is_whole
+from downweigh.wishes import is_wish
+
+MOST_NAMES = 3
+MOST_PLACES = 6
+MOST_ROWS = 10
+MOST_WISHES = 12
+LONGEST_NAME = 6
+LETTERS = "abcdefghijklmnopqrstuvwxyz"
+
+
+def is_name(thing):
+    """Whether anything is a name of a number or a place: one to six small letters."""
+    if not isinstance(thing, str) or len(thing) < 1 or len(thing) > LONGEST_NAME:
+        return False
+    return all([sign in LETTERS for sign in thing])
+
+
+def look_at_names(part, thing, most):
+    """Refuses anything but a list of one to so many unlike names."""
+    if not isinstance(thing, list) or len(thing) < 1 or len(thing) > most:
+        raise NoProgram(part, None)
+    for at, name in enumerate(thing):
+        if not is_name(name) or name in thing[:at]:
+            raise NoProgram(part, at)
+
+
+def is_place(places, thing):
+    """Whether anything is the number of one of so many places."""
+    return is_whole(thing) and 0 <= thing < places
+
+
+def is_wishes(many, thing):
+    """Whether anything is a list of wishes over so many numbers, no more than a row has."""
+    if not isinstance(thing, list) or len(thing) > MOST_WISHES:
+        return False
+    return all([is_wish(many, wish) for wish in thing])
+
+
+def is_row(names, places, thing):
+    """Whether anything is a row of a program with so many names and places."""
+    if not isinstance(thing, tuple) or len(thing) != 3:
+        return False
+    start, to, wishes = thing
+    if not is_place(places, start) or not is_place(places, to):
+        return False
+    return is_wishes(2 * names, wishes)
+
+
+def look_at_rows(names, places, thing):
+    """Refuses anything but a list of rows, of a program with so many names and places."""
+    if not isinstance(thing, list) or len(thing) > MOST_ROWS:
+        raise NoProgram("rows", None)
+    for at, row in enumerate(thing):
+        if not is_row(names, places, row):
+            raise NoProgram("rows", at)
+
+
+def look_at(thing):
+    """Refuses anything but a program."""
+    if not isinstance(thing, tuple) or len(thing) != 3:
+        raise NoProgram(None, None)
+    names, places, rows = thing
+    look_at_names("names", names, MOST_NAMES)
+    look_at_names("places", places, MOST_PLACES)
+    look_at_rows(len(names), len(places), rows)
