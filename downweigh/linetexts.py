@@ -40,7 +40,7 @@ def shown_wish(names, wish):
 def read_size(spots, text):
     """Where a number stands in a line, and its size; spots says where each name stands."""
     size, star, name = text.partition("*")
-    if star == "" and name == "" and size in spots:
+    if star == "" and size in spots:
         return (spots[size], 1)
     if not is_figures(size):
         raise NoText(0)
@@ -56,8 +56,6 @@ def read_signs(words):
     below = words[0].startswith("-")
     told = [(below, words[0][1:] if below else words[0])]
     for sign, size in zip(words[1::2], words[2::2]):
-        if sign not in ("+", "-"):
-            raise NoText(0)
         told.append((sign == "-", size))
     return told
 
@@ -71,7 +69,7 @@ def read_line(names, text):
     for below, words in read_signs(text.split(" ")):
         at, size = read_size(spots, words)
         line[at] = -size if below else size
-    # a nought, a `1*`, a name twice or out of order: read so far, but no line is written so
+    # a nought, a `1*`, another sign, a name twice or out of order: read so far, but no line is written so
     if shown_line(names, line) != text:
         raise NoText(0)
     return line
