@@ -11,7 +11,7 @@ NONE = "none"
 FAILS = "fails"
 
 
-def never(many):
+def minus_one(many):
     """The line over so many numbers that is worth -1 everywhere."""
     return [-1] + [0] * many
 
@@ -58,7 +58,7 @@ def far_on(line, numbers, way):
 def granted(many, wishes):
     """Numbers that grant all wishes, or shares that carry what can't be."""
     look_at_many(many)
-    word, told = balance(columns_of(many, wishes), never(many))
+    word, told = balance(columns_of(many, wishes), minus_one(many))
     if word == SHARES:
         return (SHARES, shares_of(wishes, told))
     return (NUMBERS, numbers_of(told))
@@ -83,7 +83,7 @@ def lets_granted(many, wishes, thing):
     word = word_of(thing)
     if word == NUMBERS:
         return is_numbers(many, thing[1]) and grants(wishes, thing[1])
-    return word == SHARES and carries(wishes, never(many), thing[1])
+    return word == SHARES and carries(wishes, minus_one(many), thing[1])
 
 
 def lets_follows(many, wishes, line, thing):
@@ -91,7 +91,7 @@ def lets_follows(many, wishes, line, thing):
     look_at_many(many)
     word = word_of(thing)
     if word == NONE:
-        return carries(wishes, never(many), thing[1])
+        return carries(wishes, minus_one(many), thing[1])
     if word == SHARES:
         return carries(wishes, line, thing[1])
     if word != FAILS or not is_numbers(many, thing[1]):

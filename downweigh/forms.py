@@ -1,4 +1,6 @@
-"""Forms that anything is asked for: pairs that begin with a word."""
+"""Forms that anything is asked for: pairs that begin with a word, numbers of things, rising lists of these."""
+
+from downweigh.numbers import is_whole
 
 
 def word_of(thing):
@@ -6,3 +8,15 @@ def word_of(thing):
     if not isinstance(thing, tuple) or len(thing) != 2 or not isinstance(thing[0], str):
         return None
     return thing[0]
+
+
+def is_one_of(many, thing):
+    """Whether anything is the number, from 0, of one of so many things."""
+    return is_whole(thing) and 0 <= thing < many
+
+
+def is_rising(many, thing):
+    """Whether anything is a list of numbers of some of so many things, unlike and rising."""
+    if not isinstance(thing, list) or not all([is_one_of(many, at) for at in thing]):
+        return False
+    return all([one < other for one, other in zip(thing, thing[1:])])

@@ -1,7 +1,7 @@
 """Programs: names of numbers, names of places, and rows that lead from place to place."""
 
-from downweigh.errors import NoProgram
-from downweigh.numbers import is_whole
+from downweigh.errors import NoProgram, NoRow
+from downweigh.forms import is_one_of
 from downweigh.wishes import is_wish
 
 MOST_NAMES = 3
@@ -28,11 +28,6 @@ def look_at_names(part, thing, most):
             raise NoProgram(part, at)
 
 
-def is_place(places, thing):
-    """Whether anything is the number of one of so many places."""
-    return is_whole(thing) and 0 <= thing < places
-
-
 def is_wishes(many, thing):
     """Whether anything is a list of wishes over so many numbers, no more than a row has."""
     if not isinstance(thing, list) or len(thing) > MOST_WISHES:
@@ -45,7 +40,7 @@ def is_row(names, places, thing):
     if not isinstance(thing, tuple) or len(thing) != 3:
         return False
     start, to, wishes = thing
-    if not is_place(places, start) or not is_place(places, to):
+    if not is_one_of(places, start) or not is_one_of(places, to):
         return False
     return is_wishes(2 * names, wishes)
 
@@ -67,3 +62,25 @@ def look_at(thing):
     look_at_names("names", names, MOST_NAMES)
     look_at_names("places", places, MOST_PLACES)
     look_at_rows(len(names), len(places), rows)
+
+
+def look_at_number(program, thing):
+    """Refuses anything but the number of one of a program's rows."""
+    if not is_one_of(len(program[2]), thing):
+        raise NoRow(thing)
+
+
+def copied_wishes(wishes):
+    """The same wishes as new lists, apart also where two of them are one thing."""
+    return [(word, list(line)) for word, line in wishes]
+
+
+def copied_rows(rows):
+    """The same rows as new lists, apart also where two of them are one thing."""
+    return [(start, to, copied_wishes(wishes)) for start, to, wishes in rows]
+
+
+def copied(program):
+    """The same program as new lists."""
+    names, places, rows = program
+    return (list(names), list(places), copied_rows(rows))

@@ -214,16 +214,35 @@ class Code(unittest.TestCase):
                     self.assertIn(node, allowed, (path.name, node.lineno))
 
     def test_calls(self):
+        own = [node.name for file, node in nodes(ast.ClassDef)]
         for file, node in nodes(ast.Call):
             if name_of(node) in TAKE_LISTS and len(node.args) == 1:
                 self.assertNotIsInstance(node.args[0], ast.GeneratorExp, (file, node.lineno))
             if isinstance(node.func, ast.Name) and node.func.id == "isinstance":
-                self.assertIn(ast.unparse(node.args[1]), ("int", "str", "bool", "bytes", "list", "tuple", "dict"))
+                self.assertIn(ast.unparse(node.args[1]), ("int", "str", "bool", "bytes", "list", "tuple", "dict", *own))
 
     def test_raised_on_the_spot(self):
         for file, node in nodes(ast.Raise):
             self.assertIsInstance(node.exc, ast.Call, (file, node.lineno))
             self.assertIsInstance(node.exc.func, ast.Name)
+
+    def test_own_errors_alone_are_caught(self):
+        own = [node.name for file, node in nodes(ast.ClassDef) if file == "errors.py"]
+        for file, node in nodes(ast.ExceptHandler):
+            caught = node.type.elts if isinstance(node.type, ast.Tuple) else [node.type]
+            for kind in caught:
+                self.assertIn(ast.unparse(kind), own, (file, node.lineno))
+
+    def test_what_tells_of_an_object_changes_nothing(self):
+        for file, node in nodes(ast.FunctionDef):
+            if node.name in ("__eq__", "__repr__", "__str__", "__len__"):
+                self.assertIsInstance(node.body[-1], ast.Return, (file, node.name))
+                for part in ast.walk(node):
+                    self.assertNotIsInstance(part, (ast.Assign, ast.AugAssign, ast.NamedExpr, ast.Delete), (file, node.name))
+            if node.name == "__len__":
+                self.assertRegex(ast.unparse(node.body[-1]), r"^return len\(")
+            if node.name in ("__repr__", "__str__"):
+                self.assertIsInstance(node.body[-1].value, ast.JoinedStr, (file, node.name))
 
     def test_nothing_that_is_gone_through_is_changed(self):
         for file, loop in nodes(ast.For):

@@ -2,6 +2,9 @@
 
 import copy
 
+from downweigh import errors
+from downweigh.numbers import fraction
+
 
 class Sour:
     """A thing that can't be compared, counted, shown or gone through."""
@@ -58,3 +61,83 @@ def both_ways(test, call, **named):
     told = call(**named)
     test.assertEqual(call(*named.values()), told)
     return told
+
+
+def lists_in(thing):
+    """All lists within a told thing, itself with them."""
+    told = [thing] if isinstance(thing, list) else []
+    if isinstance(thing, (list, tuple)):
+        for part in thing:
+            told.extend(lists_in(part))
+    return told
+
+
+def all_own(test, told, *handed_in):
+    """The test fails where two lists within what is told are one, or one is a list that was handed in."""
+    own = [id(part) for part in lists_in(told)]
+    test.assertEqual(len(own), len(set(own)))
+    test.assertEqual(set(own) & {id(part) for part in lists_in(handed_in)}, set())
+
+
+def spoil(thing):
+    """Changes all lists within what was told or handed in."""
+    for part in lists_in(thing):
+        part.append("spoilt")
+        part.reverse()
+
+
+def refused(test, kind, call, *arguments, **named):
+    """The refusal of a call, of just this kind."""
+    with test.assertRaises(kind) as caught:
+        call(*arguments, **named)
+    test.assertIs(type(caught.exception), kind)
+    return caught.exception
+
+
+# wishes over one number ahead and one behind
+DOWN = ("just", [1, -1, 1])
+STAYS = ("just", [0, -1, 1])
+FROM_ONE = ("least", [-1, 1, 0])
+LOOP = (["x"], ["a"], [(0, 0, [FROM_ONE, DOWN])])
+
+
+def no_programs():
+    """Things that are no programs, with the fields of the refusal."""
+    return [
+        (None, None, None), ("program", None, None), (list(LOOP), None, None), (LOOP[:2], None, None),
+        (([], ["a"], []), "names", None), ((["x", "x"], ["a"], []), "names", 1), ((["x"], [], []), "places", None),
+        ((["x"], ["a", "A"], []), "places", 1), ((["x"], ["a"], None), "rows", None),
+        ((["x"], ["a"], [(0, 0, []), (0, 1, [])]), "rows", 1), ((["x"], ["a"], [(0, 0, [])] * 11), "rows", None),
+        ((["x"], ["a"], [(0, 0, [DOWN] * 13)]), "rows", 0), ((["x"], ["a"], [(0, True, [])]), "rows", 0),
+        (Sour(), None, None), ((Sour(), Sour(), Sour()), "names", None),
+    ]
+
+
+def takes_programs_alone(test, call):
+    """The test fails where a call of one argument doesn't refuse what is no program by its fields."""
+    for thing, part, number in no_programs():
+        told = refused(test, errors.NoProgram, call, thing)
+        test.assertEqual((told.part, told.number), (part, number))
+
+
+def some_line(dice, many, size=3):
+    return [dice.randint(-size, size) if dice.random() < 0.6 else 0 for place in range(many + 1)]
+
+
+def some_wishes(dice, many, most, size=3):
+    return [(dice.choice(("least", "least", "just")), some_line(dice, many, size)) for wish in range(dice.randint(0, most))]
+
+
+def some_program(dice, most_rows=10, most_wishes=4, size=3):
+    """Any program, by dice."""
+    names = ["x", "y", "zz"][:dice.randint(1, 3)]
+    places = ["a", "b", "x", "dd", "e", "abcdef"][:dice.randint(1, 6)]
+    rows = []
+    for row in range(dice.randint(0, most_rows)):
+        start, to = dice.randrange(len(places)), dice.randrange(len(places))
+        rows.append((start, to, some_wishes(dice, 2 * len(names), most_wishes, size)))
+    return (names, places, rows)
+
+
+def some_numbers(dice, many, size=4):
+    return [fraction(dice.randint(-size, size), dice.randint(1, 3)) for number in range(many)]
