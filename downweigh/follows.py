@@ -49,8 +49,6 @@ def far_on(line, numbers, way):
     """Numbers so far on from some, along a way on which a line gets less, that its worth is below nought."""
     slope = worth([0, *line[1:]], way)
     high = worth(line, numbers)
-    if high[0] < 0:
-        return numbers
     laps = 1 + whole_part(lowest(high[0] * slope[1], -high[1] * slope[0]))
     return [plus(number, times((laps, 1), part)) for number, part in zip(numbers, way)]
 
@@ -64,17 +62,24 @@ def granted(many, wishes):
     return (NUMBERS, numbers_of(told))
 
 
-def follows(many, wishes, line):
-    """Shares that carry a line, or numbers by which it fails; where none grant the wishes, shares for that."""
-    first, paper = granted(many, wishes)
-    if first == SHARES:
-        return (NONE, paper)
+def follows_where(many, wishes, line, numbers):
+    """Shares that carry a line, or numbers by which it fails, where numbers are known that grant the wishes."""
+    if worth(line, numbers)[0] < 0:
+        return (FAILS, list(numbers))
     word, told = balance(columns_of(many, wishes), line)
     if word == SHARES:
         return (SHARES, shares_of(wishes, told))
     if told[0] > 0:
         return (FAILS, numbers_of(told))
-    return (FAILS, far_on(line, paper, [(number, 1) for number in told[1:]]))
+    return (FAILS, far_on(line, numbers, [(number, 1) for number in told[1:]]))
+
+
+def follows(many, wishes, line):
+    """Shares that carry a line, or numbers by which it fails; where none grant the wishes, shares for that."""
+    word, told = granted(many, wishes)
+    if word == SHARES:
+        return (NONE, told)
+    return follows_where(many, wishes, line, told)
 
 
 def lets_granted(many, wishes, thing):

@@ -4,6 +4,7 @@ from downweigh.errors import ByNought, NoNumber, NoText
 from downweigh.figures import in_figures, is_figures, of_figures
 
 NOUGHT = (0, 1)
+ONE = (1, 1)
 
 
 def is_whole(thing):

@@ -8,10 +8,10 @@ from downweigh.programs import MOST_PLACES, MOST_ROWS, copied_rows, copied_wishe
 
 def look_at_order(many, thing):
     """Refuses anything but a list of the numbers of so many things, each once."""
-    if not isinstance(thing, list) or len(thing) != many or not all([is_one_of(many, at) for at in thing]):
-        raise NoOrder("this is no order of them all")
+    if not isinstance(thing, list) or not all([is_one_of(many, at) for at in thing]):
+        raise NoOrder("this is no list of their numbers")
     if sorted(thing) != list(range(many)):
-        raise NoOrder("one stands there twice")
+        raise NoOrder("not each of them stands there once")
 
 
 def moved(things, order):

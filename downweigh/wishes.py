@@ -1,7 +1,7 @@
 """Lines and wishes over so many numbers, and which numbers grant them."""
 
 from downweigh.errors import NoNumber
-from downweigh.numbers import NOUGHT, is_fraction, is_whole, plus, times
+from downweigh.numbers import NOUGHT, ONE, is_fraction, is_whole, plus, times
 
 MOST_NUMBERS = 8
 LEAST = "least"
@@ -48,15 +48,15 @@ def worth(line, numbers):
     return total
 
 
-def is_granted(wish, numbers):
-    """Whether numbers grant one wish."""
-    word, line = wish
-    told = worth(line, numbers)
-    if word == JUST:
-        return told == NOUGHT
-    return told[0] >= 0
+def comes_to(wishes, many, numbers):
+    """Whether each wish's line, its plain number taken so many times, comes to what the wish wants."""
+    for word, line in wishes:
+        told = plus(times((line[0], 1), many), worth([0, *line[1:]], numbers))
+        if told[0] < 0 or (word == JUST and told != NOUGHT):
+            return False
+    return True
 
 
 def grants(wishes, numbers):
     """Whether numbers grant all wishes."""
-    return all([is_granted(wish, numbers) for wish in wishes])
+    return comes_to(wishes, ONE, numbers)

@@ -19,6 +19,10 @@ FUNCTIONS = {
     "otherwise": ("places_ordered(program, order)", "numbers_ordered(program, order)", "part_of(program, rows)",
                   "beside(one, other, *, places=6, rows=10)"),
     "kept": ("lets_kept(program, start, offered, part, thing)", "put_in(program, *, wishes)"),
+    "lost": ("lets_lost(program, start, offered, thing)", "greatest(program, start, *, offered)"),
+    "weighings": ("weighs(weighing, place, numbers)", "rise(program, weighing, row)", "fall(program, weighing, row)"),
+    "ranks": ("left_by(program, never, ranks)", "lets_ranks(program, never, ranks)"),
+    "mixtures": ("lets_mixture(program, rows, thing)", "barred(mixture)"),
 }
 CLASSES = {
     ("walks", "Walk"): ("__init__(self, program, place, numbers)", "step(self, row, *, behind=None)",

@@ -5,14 +5,13 @@ import random
 import unittest
 
 from downweigh.errors import NoOffer, NoStart, TooMany
-from downweigh.follows import follows
 from downweigh.kept import lets_kept, put_in
 from downweigh.programs import look_at
 from downweigh.walks import Walk
 from downweigh.wishes import grants
 from tests.things import (
-    DOWN, FROM_ONE, LOOP, STAYS, Sour, all_own, both_ways, kept_as_is, odd_things, refused, some_line, some_numbers,
-    some_program, some_wishes, spoil, takes_programs_alone)
+    DOWN, FROM_ONE, LOOP, STAYS, Sour, all_own, bent, both_ways, kept_as_is, odd_lists, odd_offers, odd_starts, odd_things,
+    papers_by_follows, refused, some_numbers, some_offer, some_program, some_wishes, spoil, takes_programs_alone)
 
 LONG = 10 ** 40
 NOUGHT, ONE, TWO = (0, 1), (1, 1), (2, 1)
@@ -29,46 +28,6 @@ STEPS = [
     ("shares", [[ONE, ONE, NOUGHT]]),
     ("none", [(-1, 1), NOUGHT]),
 ]
-
-
-def papers_by_follows(program, start, offered, part):
-    """Papers for a part as what follows tells them; None where it is not kept."""
-    many = len(program[0])
-
-    def paper(over, wishes, lines):
-        told = [follows(over, wishes, line) for line in lines]
-        if any(word == "fails" for word, shares in told):
-            return None
-        if told and told[0][0] == "none":
-            return told[0]
-        return ("shares", [shares for word, shares in told])
-
-    begin = paper(many, start[1], [offered[start[0]][number][1] for number in part[start[0]]])
-    steps = []
-    for from_place, to, wishes in program[2]:
-        ahead = [("least", offered[from_place][number][1] + [0] * many) for number in part[from_place]]
-        behind = [offered[to][number][1] for number in part[to]]
-        steps.append(paper(2 * many, wishes + ahead, [[line[0]] + [0] * many + line[1:] for line in behind]))
-    return None if begin is None or None in steps else (begin, steps)
-
-
-def some_offer(dice, program, most=3):
-    many = len(program[0])
-    return [[("least", some_line(dice, many, 2)) for wish in range(dice.randint(0, most))] for place in program[1]]
-
-
-def bent(thing):
-    """All things that come of a thing by another thing at one place within it."""
-    for other in (None, True, Sour(), 1, (3, 7), (2, 4), (-1, 1), [], (), "none"):
-        yield other
-    if isinstance(thing, (list, tuple)):
-        kind = type(thing)
-        yield list(thing) if kind is tuple else tuple(thing)
-        for at in range(len(thing)):
-            yield kind([*thing[:at], *thing[at + 1:]])
-            yield kind([*thing[:at], thing[at], thing[at], *thing[at + 1:]])
-            for part in bent(thing[at]):
-                yield kind([*thing[:at], part, *thing[at + 1:]])
 
 
 class Papers(unittest.TestCase):
@@ -100,6 +59,12 @@ class Papers(unittest.TestCase):
                              (("none", [(-1, 1), ONE]), False), (("none", [(-1, 1), (-1, 1)]), False),
                              (("shares", [[NOUGHT, ONE], [NOUGHT, ONE]]), False), (("shares", []), False)):
             self.assertIs(self.lets((BEGIN, [*STEPS[:2], step])), wanted, step)
+
+    def test_none_is_without_factors_ahead_and_behind(self):
+        for line, wanted in (([-1, 0, 0], True), ([-1, 1, 0], False), ([-1, 0, 1], False), ([0, 0, 0], False)):
+            program = (["x"], ["a"], [(0, 0, [("least", line)])])
+            papers = (("shares", []), [("none", [ONE])])
+            self.assertIs(self.lets(papers, part=[[]], start=(0, []), offered=[[]], program=program), wanted)
 
     def test_a_start_that_can_t_be_granted(self):
         start = (0, [("least", [-4, 1]), ("least", [3, -1])])
@@ -196,28 +161,6 @@ class Papers(unittest.TestCase):
             self.assertTrue(grants([offered[walk.here()][number] for number in part[walk.here()]], walk.numbers()))
             if walk.leading():
                 walk.step(dice.choice(walk.leading()))
-
-
-def odd_starts():
-    """Things that are no starts of PROGRAM."""
-    wish = ("least", [0, 1])
-    return [*odd_things(), [0, []], (0,), (0, [], []), (2, []), (-1, []), (True, []), (False, []), ("a", []), (None, []),
-            (0, None), (0, ()), (0, [wish] * 13), (0, [("least", [0, 1, 0])]), (0, [("least", [0])]), (0, [("most", [0, 1])]),
-            (0, [["least", [0, 1]]]), (0, wish), (0, [wish, Sour()]), (Sour(), []), (0, Sour()), (0, [("least", [0, True])])]
-
-
-def odd_lists():
-    """Things that are no lists of lists of wishes, one for each place of PROGRAM."""
-    wish = ("least", [0, 1])
-    return [*odd_things(), [[]], [[], [], []], ([], []), [(), ()], [None, []], [[], None], [wish, wish], [[wish], wish],
-            [[("least", [0, 1, 2])], []], [[("least", [0])], []], [[], [("most", [0, 1])]], [[], [["least", [0, 1]]]],
-            [[wish, None], []], [[], Sour()], [Sour(), []], [[Sour()], []], [[("just", [0, 1.0])], []], [[("just", (0, 1))], []],
-            {0: [], 1: []}, "ab", [[], [("just", [False, 1])]]]
-
-
-def odd_offers():
-    wish = ("least", [0, 1])
-    return [*odd_lists(), [[wish] * 7, []], [[], [wish] * 7], [[("just", [0, 1])], []], [[], [wish, ("just", [0, 1])]]]
 
 
 class RefusedStarts(unittest.TestCase):

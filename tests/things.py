@@ -3,6 +3,7 @@
 import copy
 
 from downweigh import errors
+from downweigh.follows import follows
 from downweigh.numbers import fraction
 
 
@@ -141,3 +142,65 @@ def some_program(dice, most_rows=10, most_wishes=4, size=3):
 
 def some_numbers(dice, many, size=4):
     return [fraction(dice.randint(-size, size), dice.randint(1, 3)) for number in range(many)]
+
+
+def some_offer(dice, program, most=3):
+    many = len(program[0])
+    return [[("least", some_line(dice, many, 2)) for wish in range(dice.randint(0, most))] for place in program[1]]
+
+
+def papers_by_follows(program, start, offered, part):
+    """Papers for a part as what follows tells them; None where it is not kept."""
+    many = len(program[0])
+
+    def paper(over, wishes, lines):
+        told = [follows(over, wishes, line) for line in lines]
+        if any(word == "fails" for word, shares in told):
+            return None
+        if told and told[0][0] == "none":
+            return told[0]
+        return ("shares", [shares for word, shares in told])
+
+    begin = paper(many, start[1], [offered[start[0]][number][1] for number in part[start[0]]])
+    steps = []
+    for from_place, to, wishes in program[2]:
+        ahead = [("least", offered[from_place][number][1] + [0] * many) for number in part[from_place]]
+        behind = [offered[to][number][1] for number in part[to]]
+        steps.append(paper(2 * many, wishes + ahead, [[line[0]] + [0] * many + line[1:] for line in behind]))
+    return None if begin is None or None in steps else (begin, steps)
+
+
+def bent(thing):
+    """All things that come of a thing by another thing at one place within it."""
+    for other in (None, True, Sour(), 1, (3, 7), (2, 4), (-1, 1), [], (), "none"):
+        yield other
+    if isinstance(thing, (list, tuple)):
+        kind = type(thing)
+        yield list(thing) if kind is tuple else tuple(thing)
+        for at in range(len(thing)):
+            yield kind([*thing[:at], *thing[at + 1:]])
+            yield kind([*thing[:at], thing[at], thing[at], *thing[at + 1:]])
+            for part in bent(thing[at]):
+                yield kind([*thing[:at], part, *thing[at + 1:]])
+
+
+def odd_starts():
+    """Things that are no starts of a program with one number and two places."""
+    wish = ("least", [0, 1])
+    return [*odd_things(), [0, []], (0,), (0, [], []), (2, []), (-1, []), (True, []), (False, []), ("a", []), (None, []),
+            (0, None), (0, ()), (0, [wish] * 13), (0, [("least", [0, 1, 0])]), (0, [("least", [0])]), (0, [("most", [0, 1])]),
+            (0, [["least", [0, 1]]]), (0, wish), (0, [wish, Sour()]), (Sour(), []), (0, Sour()), (0, [("least", [0, True])])]
+
+
+def odd_lists():
+    """Things that are no lists of lists of wishes, for one number and two places."""
+    wish = ("least", [0, 1])
+    return [*odd_things(), [[]], [[], [], []], ([], []), [(), ()], [None, []], [[], None], [wish, wish], [[wish], wish],
+            [[("least", [0, 1, 2])], []], [[("least", [0])], []], [[], [("most", [0, 1])]], [[], [["least", [0, 1]]]],
+            [[wish, None], []], [[], Sour()], [Sour(), []], [[Sour()], []], [[("just", [0, 1.0])], []], [[("just", (0, 1))], []],
+            {0: [], 1: []}, "ab", [[], [("just", [False, 1])]]]
+
+
+def odd_offers():
+    wish = ("least", [0, 1])
+    return [*odd_lists(), [[wish] * 7, []], [[], [wish] * 7], [[("just", [0, 1])], []], [[], [wish, ("just", [0, 1])]]]
