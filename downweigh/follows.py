@@ -53,13 +53,18 @@ def far_on(line, numbers, way):
     return [plus(number, times((laps, 1), part)) for number, part in zip(numbers, way)]
 
 
-def granted(many, wishes):
-    """Numbers that grant all wishes, or shares that carry what can't be."""
-    look_at_many(many)
+def granted_over(many, wishes):
+    """Numbers that grant all wishes, or shares that carry what can't be, over however many numbers."""
     word, told = balance(columns_of(many, wishes), minus_one(many))
     if word == SHARES:
         return (SHARES, shares_of(wishes, told))
     return (NUMBERS, numbers_of(told))
+
+
+def granted(many, wishes):
+    """Numbers that grant all wishes, or shares that carry what can't be."""
+    look_at_many(many)
+    return granted_over(many, wishes)
 
 
 def follows_where(many, wishes, line, numbers):

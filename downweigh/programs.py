@@ -1,6 +1,6 @@
 """Programs: names of numbers, names of places, and rows that lead from place to place."""
 
-from downweigh.errors import NoProgram, NoRow
+from downweigh.errors import NoPlace, NoProgram, NoRow
 from downweigh.forms import is_one_of
 from downweigh.wishes import is_wish
 
@@ -12,11 +12,16 @@ LONGEST_NAME = 6
 LETTERS = "abcdefghijklmnopqrstuvwxyz"
 
 
-def is_name(thing):
-    """Whether anything is a name of a number or a place: one to six small letters."""
-    if not isinstance(thing, str) or len(thing) < 1 or len(thing) > LONGEST_NAME:
+def is_letters(thing, most):
+    """Whether anything is a text of one to so many small letters."""
+    if not isinstance(thing, str) or len(thing) < 1 or len(thing) > most:
         return False
     return all([sign in LETTERS for sign in thing])
+
+
+def is_name(thing):
+    """Whether anything is a name of a number or a place: one to six small letters."""
+    return is_letters(thing, LONGEST_NAME)
 
 
 def look_at_names(part, thing, most):
@@ -68,6 +73,12 @@ def look_at_number(program, thing):
     """Refuses anything but the number of one of a program's rows."""
     if not is_one_of(len(program[2]), thing):
         raise NoRow(thing)
+
+
+def look_at_place(program, thing):
+    """Refuses anything but the number of one of a program's places."""
+    if not is_one_of(len(program[1]), thing):
+        raise NoPlace(thing)
 
 
 def copied_wishes(wishes):

@@ -1,10 +1,9 @@
 """Walks: a program gone step by step, and back."""
 
-from downweigh.errors import Bare, NoNumbers, NoPlace, NoStep
+from downweigh.errors import Bare, NoNumbers, NoStep
 from downweigh.follows import NUMBERS, granted
-from downweigh.forms import is_one_of
 from downweigh.numbers import shown
-from downweigh.programs import copied, look_at, look_at_number
+from downweigh.programs import copied, look_at, look_at_number, look_at_place
 from downweigh.wishes import grants, is_numbers, worth
 
 
@@ -63,8 +62,7 @@ class Walk:
 
     def __init__(self, program, place, numbers):
         look_at(program)
-        if not is_one_of(len(program[1]), place):
-            raise NoPlace(place)
+        look_at_place(program, place)
         look_at_numbers(program, numbers)
         self.plan = copied(program)
         self.trail = [(place, list(numbers))]

@@ -23,6 +23,10 @@ FUNCTIONS = {
     "weighings": ("weighs(weighing, place, numbers)", "rise(program, weighing, row)", "fall(program, weighing, row)"),
     "ranks": ("left_by(program, never, ranks)", "lets_ranks(program, never, ranks)"),
     "mixtures": ("lets_mixture(program, rows, thing)", "barred(mixture)"),
+    "settling": ("settled(program)", "sets_of(program)"),
+    "bounds": ("most_steps(program, never, ranks, *, place=0, numbers)",),
+    "rounds": ("lets_round(program, thing)", "gone(program, round_told, *, laps=1)", "mixture_of(program, round_told)",
+               "round_of(program, rows)", "round_met(program, *, longest=6)"),
 }
 CLASSES = {
     ("walks", "Walk"): ("__init__(self, program, place, numbers)", "step(self, row, *, behind=None)",
