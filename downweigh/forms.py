@@ -1,4 +1,4 @@
-"""Forms that anything is asked for: pairs that begin with a word, numbers of things, rising lists of these."""
+"""Forms that anything is asked for: pairs that begin with a word, numbers of things, rising lists of these; copies."""
 
 from downweigh.numbers import is_whole
 
@@ -20,3 +20,12 @@ def is_rising(many, thing):
     if not isinstance(thing, list) or not all([is_one_of(many, at) for at in thing]):
         return False
     return all([one < other for one, other in zip(thing, thing[1:])])
+
+
+def apart(thing):
+    """The same with new lists, each apart from all others."""
+    if isinstance(thing, list):
+        return [apart(part) for part in thing]
+    if isinstance(thing, tuple):
+        return tuple([apart(part) for part in thing])
+    return thing

@@ -27,13 +27,21 @@ FUNCTIONS = {
     "bounds": ("most_steps(program, never, ranks, *, place=0, numbers)",),
     "rounds": ("lets_round(program, thing)", "gone(program, round_told, *, laps=1)", "mixture_of(program, round_told)",
                "round_of(program, rows)", "round_met(program, *, longest=6)"),
+    "codes": ("look_at_code(names, thing)",),
+    "making": ("made(names, code)",),
+    "codetexts": ("shown_code(names, code)", "read_code(names, text)"),
 }
 CLASSES = {
     ("walks", "Walk"): ("__init__(self, program, place, numbers)", "step(self, row, *, behind=None)",
                         "go(self, steps, *, keep=False)", "undo(self)", "here(self)", "numbers(self)", "rows(self)",
                         "states(self)", "leads(self, row)", "leading(self)", "twin(self)", "__eq__(self, other)",
                         "__len__(self)", "__repr__(self)", "__str__(self)"),
+    ("bench", "Bench"): ("__init__(self, program)", "put(self, row)", "take(self, number)", "change(self, number, wishes)", "undo(self)",
+                         "ask(self)", "ask_with(self, rows)", "program(self)", "deeds(self)", "keeps(self)", "twin(self)",
+                         "__eq__(self, other)", "__len__(self)", "__repr__(self)"),
+    ("desk", "Desk"): ("__init__(self)", "say(self, row)"),
 }
+CONSTANTS = {("programs", "MOST_PLACES"): 6, ("programs", "MOST_ROWS"): 10, ("rounds", "LONGEST"): 6}
 
 
 def module(name):
@@ -47,6 +55,11 @@ class Interface(unittest.TestCase):
                 told = getattr(module(name), call.partition("(")[0])
                 self.assertEqual(told.__name__ + str(inspect.signature(told)), call)
                 self.assertEqual(told.__module__, "downweigh." + name)
+
+    def test_constants(self):
+        for (name, constant), wanted in CONSTANTS.items():
+            told = getattr(module(name), constant)
+            self.assertEqual((told, type(told)), (wanted, int))
 
     def test_methods_stand_in_the_class_itself(self):
         for (name, kind), calls in CLASSES.items():
