@@ -2,7 +2,7 @@
 
 from downweigh.errors import NoRanks
 from downweigh.numbers import whole_part
-from downweigh.programs import look_at, look_at_place
+from downweigh.programs import look_at_place
 from downweigh.ranks import lets_ranks
 from downweigh.walks import look_at_numbers
 from downweigh.weighings import weighs
@@ -10,7 +10,6 @@ from downweigh.weighings import weighs
 
 def most_steps(program, never, ranks, *, place=0, numbers):
     """The most steps of a run from a state, where there is one rank or none; None where there are more."""
-    look_at(program)
     if not lets_ranks(program, never, ranks):
         raise NoRanks("these are no ranks that leave no row")
     look_at_place(program, place)

@@ -2,7 +2,8 @@
 
 from downweigh.errors import NoCode
 from downweigh.forms import is_one_of
-from downweigh.wishes import is_line, is_wish
+from downweigh.programs import is_wishes
+from downweigh.wishes import is_line
 
 PUT = "put"
 READ = "read"
@@ -18,9 +19,7 @@ DEEPEST = 4
 
 def is_wanted(many, thing):
     """Whether anything is a list of wishes over so many numbers, no more than a want or a round has."""
-    if not isinstance(thing, list) or len(thing) > MOST_WANTED:
-        return False
-    return all([is_wish(many, wish) for wish in thing])
+    return is_wishes(many, thing) and len(thing) <= MOST_WANTED
 
 
 def is_codes(many, thing, deep):

@@ -3,7 +3,7 @@
 from downweigh.bounds import most_steps
 from downweigh.codetexts import AND, read_code
 from downweigh.deskrows import fractions_in, names_in, on_one_row, rows_in, words_of
-from downweigh.errors import NoDeed, NoName, NoPlace, NoRanks
+from downweigh.errors import NoDeed, NoName, NoPlace
 from downweigh.figures import in_figures
 from downweigh.making import made
 from downweigh.progtexts import read_program, shown_program
@@ -62,8 +62,7 @@ def told_most(program, place, numbers):
         raise NoPlace(place)
     look_at_numbers(program, numbers)
     word, never, ranks, mixtures = settled(program)
-    if word == LEFT:
-        raise NoRanks("rows of the program are left")
+    # where rows are left, these ranks are refused
     most = most_steps(program, never, ranks, place=program[1].index(place), numbers=numbers)
     return NOTHING if most is None else in_figures(most)
 

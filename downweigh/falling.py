@@ -8,7 +8,8 @@ the sum of these makes all fall that can; or it tells shares of steps, which bar
 
 from downweigh.balance import AGAINST, balance, unit
 from downweigh.cones import worth_at
-from downweigh.numbers import NOUGHT, lowest, plus, times
+from downweigh.follows import numbers_of
+from downweigh.numbers import NOUGHT, plus, times
 from downweigh.tables import shared_by
 
 STEP = "step"
@@ -116,9 +117,7 @@ def lifted(weighing, program, left, shapes, spots):
         line = weighing[program[2][row][0]]
         lows.extend([worth_at(line, corner) // corner[0] for corner in shapes[row][0]])
     low = min(lows)
-    return [
-        [line[0] - low, *line[1:]] if place in spots else line for place, line in enumerate(weighing)
-    ]
+    return [[line[0] - low, *line[1:]] if place in spots else line for place, line in enumerate(weighing)]
 
 
 def sum_of(askings, shares, row, kind, width):
@@ -130,11 +129,6 @@ def sum_of(askings, shares, row, kind, width):
     return told
 
 
-def numbers_at(corner):
-    """The numbers that a corner stands for."""
-    return [lowest(number, corner[0]) for number in corner[1:]]
-
-
 def mixture_by(askings, shares, program, left, shapes):
     """The mixture over the rows left of shares of all that is asked."""
     size = len(program[0])
@@ -142,7 +136,8 @@ def mixture_by(askings, shares, program, left, shapes):
     for row in left:
         step = sum_of(askings, shares, row, STEP, 2 * size + 1)
         drift = sum_of(askings, shares, row, DRIFT, 2 * size + 1)
-        goes = numbers_at(shapes[row][0][0])
+        corners, ways = shapes[row]
+        goes = numbers_of(corners[0])
         told.append((
             row, step[0], step[1:size + 1], step[size + 1:],
             (drift[1:size + 1], drift[size + 1:]), (goes[:size], goes[size:]),

@@ -40,9 +40,14 @@ def shares_of(wishes, parts):
     return shares
 
 
-def numbers_of(against):
-    """The numbers that whole numbers against a line tell, where the first one is above nought."""
-    return [lowest(number, against[0]) for number in against[1:]]
+def numbers_of(wholes):
+    """The numbers that whole numbers stand for, the first one being above nought: all others divided by it."""
+    return [lowest(number, wholes[0]) for number in wholes[1:]]
+
+
+def along(numbers, way, laps):
+    """Numbers so many times on along a way."""
+    return [plus(number, times((laps, 1), part)) for number, part in zip(numbers, way)]
 
 
 def far_on(line, numbers, way):
@@ -50,7 +55,7 @@ def far_on(line, numbers, way):
     slope = worth([0, *line[1:]], way)
     high = worth(line, numbers)
     laps = 1 + whole_part(lowest(high[0] * slope[1], -high[1] * slope[0]))
-    return [plus(number, times((laps, 1), part)) for number, part in zip(numbers, way)]
+    return along(numbers, way, laps)
 
 
 def granted_over(many, wishes):

@@ -22,6 +22,12 @@ def rows_that_go(program, thing):
     return [row for row in range(len(rows)) if row not in still]
 
 
+def fall_asked(way, weighing, falls):
+    """The line that the shares of a row's fall must carry: the fall, less 1 where the row falls."""
+    line = fall_by(way, weighing)
+    return [line[0] - 1, *line[1:]] if falls else line
+
+
 def lets_entry(program, weighing, row, thing):
     """Whether anything is a rank's entry for a row."""
     if not isinstance(thing, tuple) or len(thing) != 4:
@@ -30,10 +36,9 @@ def lets_entry(program, weighing, row, thing):
     if not is_whole(number) or number != row or not isinstance(falls, bool):
         return False
     way = program[2][row]
-    line = fall_by(way, weighing)
-    if falls:
-        line[0] -= 1
-    return carries(way[2], line, fall) and carries(way[2], line_ahead(weighing[way[0]]), bound)
+    if not carries(way[2], fall_asked(way, weighing, falls), fall):
+        return False
+    return carries(way[2], line_ahead(weighing[way[0]]), bound)
 
 
 def left_behind(program, left, thing):

@@ -1,10 +1,10 @@
 """Rounds: rings of rows that can be gone round again and again without end."""
 
 from downweigh.errors import NoNumber, NoRing, NoRound
-from downweigh.follows import NUMBERS, granted_over
+from downweigh.follows import NUMBERS, along, granted_over
 from downweigh.forms import is_one_of
 from downweigh.mixtures import total
-from downweigh.numbers import NOUGHT, is_whole, minus, plus, times
+from downweigh.numbers import NOUGHT, is_whole, minus
 from downweigh.programs import look_at
 from downweigh.wishes import comes_to, grants, is_numbers
 
@@ -68,11 +68,6 @@ def look_at_round(program, thing):
         raise NoRound("this is no round of the program")
 
 
-def drifted(numbers, drift, laps):
-    """Numbers and so many times a drift."""
-    return [plus(number, times((laps, 1), more)) for number, more in zip(numbers, drift)]
-
-
 def gone(program, round_told, *, laps=1):
     """All states from the first one of a round to that behind so many laps."""
     look_at(program)
@@ -83,8 +78,8 @@ def gone(program, round_told, *, laps=1):
     places = [program[2][row][0] for row in rows]
     told = []
     for lap in range(laps):
-        told.extend([(place, drifted(states[at], drifts[at], lap)) for at, place in enumerate(places)])
-    return [*told, (places[0], drifted(states[0], drifts[0], laps))]
+        told.extend([(place, along(states[at], drifts[at], lap)) for at, place in enumerate(places)])
+    return [*told, (places[0], along(states[0], drifts[0], laps))]
 
 
 def summed(lists, size):
@@ -148,7 +143,7 @@ def round_by(program, rows):
     if word != NUMBERS:
         return None
     lists = [told[at * size:(at + 1) * size] for at in range(2 * many)]
-    states = [*lists[:many], drifted(lists[0], lists[many], 1)]
+    states = [*lists[:many], along(lists[0], lists[many], 1)]
     return (list(rows), states, [*lists[many:], list(lists[many])])
 
 

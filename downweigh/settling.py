@@ -5,8 +5,8 @@ from downweigh.cones import corners_and_ways
 from downweigh.falling import made_fall
 from downweigh.follows import follows_where, granted
 from downweigh.programs import look_at
+from downweigh.ranks import fall_asked
 from downweigh.sides import line_ahead
-from downweigh.weighings import fall_by
 
 ENDS = "ends"
 LEFT = "left"
@@ -27,7 +27,8 @@ def parted(program):
 
 def stages_of(program, left):
     """What is found rank by rank, until no row is left or none falls: tuples (left, falling, weighing, mixture)."""
-    shapes = {row: corners_and_ways(2 * len(program[0]), program[2][row][2]) for row in left}
+    many = 2 * len(program[0])
+    shapes = {row: corners_and_ways(many, program[2][row][2]) for row in left}
     stages = []
     while left != []:
         falling, weighing, mixture = made_fall(program, left, shapes)
@@ -40,12 +41,10 @@ def stages_of(program, left):
 
 def entry_of(program, weighing, row, falls, numbers):
     """A rank's entry for a row, which goes by numbers."""
-    start, to, wishes = program[2][row]
-    line = fall_by(program[2][row], weighing)
-    if falls:
-        line[0] -= 1
+    way = program[2][row]
+    start, to, wishes = way
     many = 2 * len(program[0])
-    fall = follows_where(many, wishes, line, numbers)[1]
+    fall = follows_where(many, wishes, fall_asked(way, weighing, falls), numbers)[1]
     bound = follows_where(many, wishes, line_ahead(weighing[start]), numbers)[1]
     return (row, falls, fall, bound)
 

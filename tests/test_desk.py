@@ -222,7 +222,7 @@ class Refused(Case):
         for row in ("", " ", "name", "Names", "names ", " names", "names p", "names  ", "undo ", "undo p", "undo 1", " undo", "UNDO", "drop", "drop ", "drop p ",
                     "drop p q", "drop  p", " drop p", "show", "show ", "show p ", "show p q", "show  p", "settle", "settle p p", "settle p ", "settle  p", "ranks",
                     "ranks p 0", "ranks ", "never", "never p 0", "never p ", "round", "round p 6", "round p ", "most", "most p", "most p a", "most p a ",
-                    "most p a 1 ", "most p a 1 2", "most p  a 1", "most p a  1", "most  p a 1", "program", "program p", "program ", "program  p " + DOWN,
+                    "most p a 1 ", "most p a 1 2", "most p  a 1", "most p  1", "most p a  1", "most  p a 1", "program", "program p", "program ", "program  p " + DOWN,
                     "program  ", "code", "code c", "code c x", "code c ", "code  c x read x", "code c  x read x", "code  x read x", "code c  ", "program\tp " + DOWN,
                     "names\t", "show\tp", "keep p", "ok", "-", "p", "0", "row a b", "rank p", "settled p", "show p;", "names;"):
             self.wrong(errors.NoLine, row)

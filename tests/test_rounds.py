@@ -7,6 +7,7 @@ from fractions import Fraction
 
 from downweigh import errors
 from downweigh.mixtures import barred, lets_mixture
+from downweigh.numbers import fraction
 from downweigh.otherwise import part_of, places_ordered
 from downweigh.ranks import left_by, lets_ranks
 from downweigh.rounds import LONGEST, gone, lets_round, mixture_of, round_met, round_of
@@ -28,7 +29,10 @@ THREE_ROUND = ([0, 1, 2], [[(4, 1), NOUGHT], [TWO, TWO], [TWO, ONE], [(4, 1), ON
 # in the one row x and y change places, so what is added to x in one lap is added to y in the other
 SWAP = program("x y", "a", "a a: -x + y' = 0; -y + x' = 0")
 SWAP_ROUND = ([0, 0], [[NOUGHT, ONE], [ONE, NOUGHT], [NOUGHT, ONE]], [[NOUGHT, NOUGHT]] * 3)
-ALL = ((STAND, STAND_ROUND), (UP, UP_ROUND), (THREE, THREE_ROUND), (SWAP, SWAP_ROUND))
+# x twice as much and then half as much and one, so its drift is twice as much in between
+GROWS = program("x", "a b", "a b: 2*x - x' = 0", "b a: 2 + x - 2*x' = 0")
+GROWS_ROUND = ([0, 1], [[NOUGHT], [NOUGHT], [ONE]], [[ONE], [TWO], [ONE]])
+ALL = ((STAND, STAND_ROUND), (UP, UP_ROUND), (THREE, THREE_ROUND), (SWAP, SWAP_ROUND), (GROWS, GROWS_ROUND))
 FREE = program("x", "a b", "a b:", "b a:", "a a:", "b a: -x + x' = 0")
 
 
@@ -85,6 +89,9 @@ class Lets(Case):
     def test_drifts(self):
         for drift, other, wanted in ((ONE, ONE, True), (ONE, TWO, False), (TWO, TWO, False), (NOUGHT, NOUGHT, False), (NOUGHT, ONE, False)):
             self.assertIs(self.lets(UP, ([0], [[NOUGHT], [ONE]], [[drift], [other]])), wanted)
+        # the first and the last one are alike, and what one lap adds, also where the row wants nothing
+        for first, last, more in itertools.product((NOUGHT, ONE), repeat=3):
+            self.assertIs(self.lets(FREE, ([2], [[ONE], [fraction(1 + more[0])]], [[first], [last]])), first == last == more)
         # lap by lap x comes below what the row wants
         down = program("x", "a", "a a: -5 + x >= 0; 1 - x + x' = 0")
         self.assertFalse(self.lets(down, ([0], [[(9, 1)], [(8, 1)]], [[LESS], [LESS]])))
@@ -92,8 +99,7 @@ class Lets(Case):
         self.assertTrue(self.lets(endless, ([0], [[(9, 1)], [(8, 1)]], [[LESS], [LESS]])))
         # a drift goes by the rows, too, from place to place
         for middle, wanted in ((TWO, True), (ONE, False), (NOUGHT, False)):
-            grows = program("x", "a b", "a b: 2*x - x' = 0", "b a: 2 + x - 2*x' = 0")
-            self.assertIs(self.lets(grows, ([0, 1], [[NOUGHT], [NOUGHT], [ONE]], [[ONE], [middle], [ONE]])), wanted)
+            self.assertIs(self.lets(GROWS, (*GROWS_ROUND[:2], [[ONE], [middle], [ONE]])), wanted)
         for one, other, wanted in ((NOUGHT, NOUGHT, True), (ONE, ONE, False)):
             self.assertIs(self.lets(SWAP, ([0, 0], *SWAP_ROUND[1:2], [[one, NOUGHT], [NOUGHT, one], [other, NOUGHT]])), wanted)
 
@@ -171,6 +177,7 @@ class Gone(Case):
         self.assertEqual(gone(UP, UP_ROUND, laps=3), [(0, [(1, 2)]), (0, [(3, 2)]), (0, [(5, 2)]), (0, [(7, 2)])])
         self.assertEqual(gone(THREE, THREE_ROUND, laps=2), [
             (0, [(4, 1), NOUGHT]), (1, [TWO, TWO]), (2, [TWO, ONE]), (0, [(4, 1), ONE]), (1, [TWO, (3, 1)]), (2, [TWO, TWO]), (0, [(4, 1), TWO])])
+        self.assertEqual(gone(GROWS, GROWS_ROUND, laps=2), [(0, [NOUGHT]), (1, [NOUGHT]), (0, [ONE]), (1, [TWO]), (0, [TWO])])
         self.assertEqual(gone(SWAP, SWAP_ROUND, laps=1), [(0, [NOUGHT, ONE]), (0, [ONE, NOUGHT]), (0, [NOUGHT, ONE])])
 
     def test_one_lap_where_it_is_left_out(self):
@@ -226,8 +233,6 @@ class Mixed(Case):
         # rings in which rows are gone more often than once, or that begin at another row
         self.check(FREE, ([2, 0, 1, 0, 3, 2], [[NOUGHT], [(1, 3)], [TWO], [LESS], [(5, 3)], [(5, 3)], [ONE]], [[ONE]] * 7))
         self.check(THREE, ([1, 2, 0], [[TWO, (4, 1)], [TWO, (3, 1)], [(4, 1), (3, 1)], [TWO, (5, 1)]], THREE_ROUND[2]))
-        drifts = [[ONE], [TWO], [ONE]]
-        self.check(program("x", "a b", "a b: 2*x - x' = 0", "b a: 2 + x - 2*x' = 0"), ([0, 1], [[NOUGHT], [NOUGHT], [ONE]], drifts))
 
     def test_refusals(self):
         takes_programs_alone(self, lambda thing: mixture_of(thing, Sour()))

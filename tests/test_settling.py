@@ -9,6 +9,7 @@ from downweigh.mixtures import barred
 from downweigh.otherwise import beside, numbers_ordered, part_of, places_ordered
 from downweigh.progtexts import read_program, shown_program
 from downweigh.ranks import left_by
+from downweigh.rounds import lets_round, round_met, round_of
 from downweigh.settling import sets_of, settled
 from downweigh.walks import Walk
 from tests.examples import SETTLED, check_settled, program
@@ -103,6 +104,42 @@ class Examples(unittest.TestCase):
             one = (["x"], ["a"], [(0, 0, [("least", [-low, 1, 0]), ("least", [-1, 1, -1])])])
             word, never, ranks, mixtures = check_settled(self, one)
             self.assertEqual((word, len(ranks)), ("ends", 1))
+
+
+class Largest(unittest.TestCase):
+    """Ten rows of twelve wishes over three numbers, round by six places."""
+
+    def largest(self, dice, first):
+        rows = []
+        for row in range(10):
+            start, to = row % 6, (row + 1) % 6
+            wishes = first(start, to)
+            while len(wishes) < 12:
+                wishes.append(("least", [dice.randint(0, 9)] + [dice.randint(-3, 3) for number in range(6)]))
+            rows.append((start, to, wishes))
+        return (["x", "y", "z"], ["a", "b", "c", "d", "e", "f"], rows)
+
+    def test_left(self):
+        one = self.largest(random.Random(1), lambda start, to: [])
+        self.assertEqual(sets_of(one), ([], [], list(range(10))))
+        check_settled(self, one)
+        ring = round_met(one)[0]
+        self.assertEqual(len(ring), 6)
+        self.assertTrue(lets_round(one, round_of(one, ring * 2)))
+
+    def test_ends(self):
+        dice = random.Random(2)
+        weighing = [[dice.randint(-3, 3) for number in range(4)] for place in range(6)]
+
+        def falls(start, to):
+            ahead, behind = weighing[start], weighing[to]
+            return [("least", ahead + [0, 0, 0]), ("least", [ahead[0] - behind[0] - 1, *ahead[1:], *[-number for number in behind[1:]]])]
+
+        one = self.largest(dice, falls)
+        word, never, ranks, mixtures = check_settled(self, one)
+        self.assertEqual((word, len(ranks)), ("ends", 1))
+        self.assertIsNone(round_met(one))
+        self.assertIsNone(round_of(one, [0, 1, 2, 3, 4, 5] * 2))
 
 
 class Found(unittest.TestCase):
